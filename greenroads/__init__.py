@@ -1,0 +1,1 @@
+"""Greenroads: roads of signals as functions of the start."""
