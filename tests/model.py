@@ -139,3 +139,9 @@ def great_passage(source, cycle, many):
 def near_edges(passage):
     """The starts at which the runs of a passage begin and end, and those beside them."""
     return [edge + beside for first, last, _ in passage.runs for edge in (first, last) for beside in (-1, 0, 1)]
+
+
+def drawn_out(passage, times):
+    """A passage of which each start is drawn out to many: they follow one another, or arrive with the first one."""
+    runs = [(first * times, last * times + times - 1, arrival * times) for first, last, arrival in passage.runs]
+    return Passage(passage.cycle * times, tuple(runs))

@@ -1,8 +1,12 @@
 """The examples of the document, as it writes them."""
 import unittest
 
+from greenroads.errors import InvalidText
 from greenroads.passages import Passage, first_difference, gaps, pass_of, platoons, travel_of
+from greenroads.roads import Road, drive, needless_signals
 from greenroads.signals import count_green, first_hit, last_green, next_green, shortest_greens
+from greenroads.starts import best_start, count_within, nth_within, total_time, worst_start
+from greenroads.windows import fewest_windows, from_windows, road_of
 
 
 class Examples(unittest.TestCase):
@@ -28,12 +32,38 @@ class Examples(unittest.TestCase):
     def test_one_two_and_nine_as_roads(self):
         self.assertTrue(pass_of(10, ((0, 2),)) + travel_of(10, 5) == self.two)
         self.assertTrue(travel_of(10, 9) == self.nine)
+        for text, passage in [("s:0+4 3 s:5+4", self.one), ("s:0+2 5", self.two), ("9", self.nine)]:
+            self.assertTrue(Road(10, text).passage() == passage)
         self.assertEqual([self.one(start) for start in range(13)], [5, 5, 5, 6] + [15] * 9)
         self.assertEqual(self.one.runs, ((2, 3, 5),))
         self.assertEqual(self.two.runs, ((0, 1, 5),))
         self.assertEqual(self.nine.runs, ((0, 9, 9),))
         self.assertEqual([self.two(start) for start in (-8, 0, 1, 2, 10)], [5, 5, 6, 15, 15])
         self.assertEqual([self.nine(start) for start in (-9, 0, 25)], [0, 9, 34])
+
+    def test_roads(self):
+        road = Road(10, "s:0+4 3 s:5+4")
+        found = [road.passage().runs, road.signals, drive(road, 1), Road(10, "( s:0+4 3 )2").passage().runs]
+        wanted = [((2, 3, 5),), (((0, 4),), ((5, 4),)), [(0, 1, 1), (1, 4, 5)], ((0, 0, 6), (3, 3, 13))]
+        self.assertEqual(found, wanted)
+        found = [Road(10, "{ s:0+2 5 | 9 }")(2), Road(10, "< s:0+2 5 & 9 >")(2)]
+        self.assertEqual(found + [needless_signals(Road(10, "s:0+4 s:0+4 3"))], [11, 15, [0, 1]])
+        with self.assertRaises(InvalidText) as caught:
+            Road(10, "3 ( 4")
+        self.assertEqual(caught.exception.index, 3)
+
+    def test_starts(self):
+        one = self.one
+        found = [count_within(one, 4, 0, 10), count_within(one, 4, 0, 10 ** 40) == 3 * 10 ** 39, nth_within(one, 4, 3)]
+        self.assertEqual(found, [3, True, 11])
+        self.assertEqual([total_time(one, 0, 10), worst_start(one), best_start(one)], [66, (11, 4), (3, 2)])
+
+    def test_windows(self):
+        one, two, nine = self.one, self.two, self.nine
+        found = [fewest_windows(one), fewest_windows(two | nine), fewest_windows(two & nine)]
+        self.assertEqual(found, [[(2, 3, 3)], [(0, 1, 5), (0, 9, 9)], [(6, 11, 9)]])
+        self.assertEqual([road_of(one).text, road_of(two | nine).text], ["s:2+2 3", "{ s:0+2 5 | 9 }"])
+        self.assertIs(from_windows(10, [(0, 1, 5), (0, 9, 9)]) == two | nine, True)
 
 
 if __name__ == "__main__":

@@ -10,11 +10,20 @@ LISTED = {
         "shortest_greens": "cycle signal", "first_hit": "cycle begin step first length"},
     "greenroads.passages": {
         "travel_of": "cycle ticks", "pass_of": "cycle signal", "platoons": "passage", "gaps": "passage",
-        "first_difference": "one other", "first_later": "one other", "Passage": "cycle runs"}}
+        "first_difference": "one other", "first_later": "one other", "Passage": "cycle runs"},
+    "greenroads.roads": {
+        "Road": "cycle text", "drive": "road start", "same_roads": "road other", "needless_signals": "road"},
+    "greenroads.starts": {
+        "count_within": "passage most low high", "nth_within": "passage most index", "total_time": "passage low high",
+        "worst_start": "passage", "best_start": "passage"},
+    "greenroads.windows": {
+        "from_windows": "cycle windows", "fewest_windows": "passage", "road_of": "passage"}}
 METHODS = {
     ("greenroads.passages", "Passage"): {
         "__init__": "self cycle runs", "__call__": "self start", "__add__": "self other", "__or__": "self other",
-        "__and__": "self other", "__eq__": "self other", "latest": "self"}}
+        "__and__": "self other", "__eq__": "self other", "latest": "self"},
+    ("greenroads.roads", "Road"): {
+        "__init__": "self cycle text", "__call__": "self start", "__eq__": "self other", "passage": "self"}}
 
 
 def words_of(callable_thing):
@@ -56,6 +65,39 @@ class Interface(unittest.TestCase):
             self.assertTrue(all(type(row) is tuple for row in found))
         for found in (passage + passage, passage | passage, passage & passage, passage.latest()):
             self.assertIs(type(found), passages.Passage)
+
+    def test_kinds_of_what_roads_return(self):
+        roads = importlib.import_module("greenroads.roads")
+        passages = importlib.import_module("greenroads.passages")
+        road = roads.Road(10, "s:0+4,6+1 { s:1+3 | 5 }")
+        self.assertEqual([type(road.cycle), type(road.text), type(road.is_plain)], [int, str, bool])
+        for found in (road.signals, road.signals[0], road.signals[0][0], road.passes):
+            self.assertIs(type(found), tuple)
+        self.assertIs(type(road.passage()), passages.Passage)
+        for found in (road(3), roads.Road(10, "3").travel):
+            self.assertIs(type(found), int)
+        for found in (roads.drive(road, 3), roads.needless_signals(road)):
+            self.assertIs(type(found), list)
+        self.assertTrue(all(type(row) is tuple for row in roads.drive(road, 3)))
+        self.assertIs(type(roads.same_roads(road, road)), bool)
+
+    def test_kinds_of_what_is_told_of_passages(self):
+        starts = importlib.import_module("greenroads.starts")
+        windows = importlib.import_module("greenroads.windows")
+        passages = importlib.import_module("greenroads.passages")
+        passage = passages.Passage(10, ((2, 3, 5),))
+        for found in (starts.count_within(passage, 4, 0, 9), starts.count_within(passage, 4, 9, 0),
+                      starts.total_time(passage, 0, 9), starts.total_time(passage, 9, 0),
+                      starts.nth_within(passage, 4, 0)):
+            self.assertIs(type(found), int)
+        for found in (starts.worst_start(passage), starts.best_start(passage)):
+            self.assertEqual([type(part) for part in found], [int, int])
+            self.assertIs(type(found), tuple)
+        found = windows.fewest_windows(passage)
+        self.assertIs(type(found), list)
+        self.assertTrue(all(type(row) is tuple for row in found))
+        self.assertIs(type(windows.from_windows(10, found)), passages.Passage)
+        self.assertEqual(type(windows.road_of(passage)).__name__, "Road")
 
 
 if __name__ == "__main__":

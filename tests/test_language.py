@@ -20,7 +20,13 @@ BUILTINS = set(
 METHODS = set(
     "append clear copy count endswith extend find get index insert isalnum isalpha isdigit islower isspace isupper "
     "items join keys ljust lower lstrip partition pop remove replace reverse rfind rjust rpartition rsplit rstrip "
-    "setdefault split splitlines startswith strip update upper values zfill bit_length add discard __init__".split())
+    "setdefault split splitlines startswith strip update upper values zfill bit_length add discard __init__ title "
+    "capitalize swapcase casefold center expandtabs removeprefix removesuffix rindex isascii isdecimal isnumeric "
+    "istitle isidentifier isprintable translate".split())
+# What may go over zip, range and their kin at once, as its first argument.
+GOES_OVER = set("list tuple dict sorted sum any all enumerate zip min max".split())
+KEYWORDS = {"sorted": {"key", "reverse"}, "min": {"key", "default"}, "max": {"key", "default"}, "sum": {"start"},
+            "enumerate": {"start"}, "zip": {"strict"}}
 BARRED = set(
     "register mro elements open input law version_info with_traceback add_note eval exec compile exit globals locals "
     "vars id dir type typing enum Enum dataclass overload contextmanager namedtuple NamedTuple Protocol ABC".split())
@@ -41,6 +47,25 @@ def bound_names(tree):
             yield node.name
         elif isinstance(node, ast.arg):
             yield node.arg
+
+
+def called_names(tree):
+    """All names of functions that a file calls by attributes: own methods, and attributes that hold something."""
+    for node in ast.walk(tree):
+        if isinstance(node, ast.ClassDef):
+            yield from (inner.name for inner in node.body if isinstance(inner, ast.FunctionDef))
+        elif isinstance(node, ast.Attribute) and isinstance(node.ctx, ast.Store):
+            yield node.attr
+
+
+def parents(tree):
+    return {inner: node for node in ast.walk(tree) for inner in ast.iter_child_nodes(node)}
+
+
+def calls_of(tree, names):
+    for node in ast.walk(tree):
+        if isinstance(node, ast.Call) and isinstance(node.func, ast.Name) and node.func.id in names:
+            yield node
 
 
 class Language(unittest.TestCase):
@@ -95,7 +120,7 @@ class Language(unittest.TestCase):
                     self.assertIn(node.id, BUILTINS, (path, node.lineno))
 
     def test_statements_and_expressions(self):
-        own = {name for _, tree in trees() for name in bound_names(tree)}
+        own = {name for _, tree in trees() for name in called_names(tree)}
         for path, tree in trees():
             for node in ast.walk(tree):
                 where = path, getattr(node, "lineno", 0)
@@ -108,6 +133,81 @@ class Language(unittest.TestCase):
                     self.assertIn(node.func.attr, METHODS | own, where)
                 if isinstance(node, ast.Attribute):
                     self.assertNotIn(node.attr, BARRED, where)
+
+    def test_values_at_module_level(self):
+        for path, tree in trees():
+            for node in tree.body:
+                if isinstance(node, ast.Assign):
+                    self.assertTrue(len(node.targets) == 1 and isinstance(node.targets[0], ast.Name), path)
+                    self.assertFalse([inner for inner in ast.walk(node.value) if isinstance(inner, ast.Name)], path)
+
+    def test_names_of_imports_and_classes_are_bound_once(self):
+        for path, tree in trees():
+            imported = [name.name for node in tree.body if isinstance(node, ast.ImportFrom) for name in node.names]
+            classes = [node.name for node in tree.body if isinstance(node, ast.ClassDef)]
+            bound = list(bound_names(tree))
+            for name in imported:
+                self.assertEqual(bound.count(name) + imported.count(name), 1, (path, name))
+            for name in classes:
+                self.assertEqual(bound.count(name), 1, (path, name))
+            top = [node.name for node in tree.body if isinstance(node, (ast.FunctionDef, ast.ClassDef))]
+            self.assertEqual(len(top), len(set(top)), path)
+
+    def test_no_imports_in_a_ring(self):
+        ahead = {path.stem: {node.module.split(".")[-1] for node in tree.body if isinstance(node, ast.ImportFrom)}
+                 for path, tree in trees()}
+        while ahead:
+            free = [name for name in ahead if not ahead[name] & set(ahead)]
+            self.assertTrue(free, ahead)
+            for name in free:
+                del ahead[name]
+
+    def test_methods_and_attributes_of_one_class(self):
+        for path, tree in trees():
+            for node in ast.walk(tree):
+                if isinstance(node, ast.ClassDef):
+                    methods = [inner.name for inner in node.body if isinstance(inner, ast.FunctionDef)]
+                    held = {inner.attr for inner in ast.walk(node)
+                            if isinstance(inner, ast.Attribute) and isinstance(inner.ctx, ast.Store)}
+                    self.assertEqual(len(methods), len(set(methods)), (path, node.name))
+                    self.assertFalse(set(methods) & held, (path, node.name))
+
+    def test_iterated_at_once(self):
+        for path, tree in trees():
+            above = parents(tree)
+            for node in calls_of(tree, {"zip", "enumerate", "reversed", "range"}):
+                over = above[node]
+                loop = isinstance(over, (ast.For, ast.comprehension)) and over.iter is node
+                call = isinstance(over, ast.Call) and isinstance(over.func, ast.Name) and over.args[:1] == [node]
+                self.assertTrue(loop or (call and over.func.id in GOES_OVER), (path, node.lineno))
+            for node in calls_of(tree, {"set"}):
+                over = above[node]
+                self.assertTrue(isinstance(over, ast.Call) and over.func.id in ("sorted", "len"), (path, node.lineno))
+
+    def test_what_classes_with_operators_ask_for(self):
+        for path, tree in trees():
+            for node in ast.walk(tree):
+                where = path, getattr(node, "lineno", 0)
+                # Where a class has __eq__, any, sum and their kin take lists.
+                self.assertNotIsInstance(node, ast.GeneratorExp, where)
+                self.assertFalse(isinstance(node, ast.Attribute) and node.attr == "sort", where)
+
+    def test_keywords_powers_and_identity(self):
+        for path, tree in trees():
+            for node in calls_of(tree, set(dir(builtins))):
+                told = {keyword.arg for keyword in node.keywords}
+                self.assertFalse(told - KEYWORDS.get(node.func.id, set()), (path, node.lineno))
+            for node in ast.walk(tree):
+                where = path, getattr(node, "lineno", 0)
+                if isinstance(node, ast.BinOp) and isinstance(node.op, ast.Pow):
+                    self.assertTrue(isinstance(node.right, ast.Constant) and 0 <= node.right.value <= 64, where)
+                if isinstance(node, ast.Compare) and isinstance(node.ops[0], (ast.Is, ast.IsNot)):
+                    self.assertIsInstance(node.comparators[0], ast.Constant, where)
+
+    def test_one_lambda_on_a_line(self):
+        for path, tree in trees():
+            rows = [node.lineno for node in ast.walk(tree) if isinstance(node, ast.Lambda)]
+            self.assertEqual(len(rows), len(set(rows)), path)
 
 
 if __name__ == "__main__":

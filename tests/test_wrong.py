@@ -6,28 +6,11 @@ from greenroads.errors import (
 from greenroads.passages import Passage, first_difference, first_later, gaps, pass_of, platoons, travel_of
 from greenroads.signals import (
     count_green, first_hit, is_green, is_signal, last_green, next_green, shortest_greens)
+from tests.wrong import (
+    CYCLE, CYCLES, DEEP_LIST, GREAT, INTEGERS, MOMENT, NUMBER, OTHERS, PASSAGE, SIGNAL, SIGNALLED, SIGNALS, TOLD,
+    WrongCalls)
 
-GREAT = 10 ** 30
-DEEP_TUPLE, DEEP_LIST = (5,), [5]
-for _ in range(39):
-    DEEP_TUPLE, DEEP_LIST = (DEEP_TUPLE,), [DEEP_LIST]
-
-# Values that are no integer, no signal, no runs and no passage.
-OTHERS = [
-    None, True, False, "", "5", b"5", (), [], [5], (5,), {}, {5: 5}, set(), {5}, object(), range(3), len, int,
-    [(0, 4)], [(2, 3, 5)], ((0, 4, 5, 6),), DEEP_TUPLE, DEEP_LIST, ValueError("why")]
-
-PASSAGE = Passage(10, ((2, 3, 5),))
-SIGNAL = ((0, 4),)
-
-CYCLES = [0, -1, GREAT + 1, -10, 10 ** 99, -10 ** 99, SIGNAL, PASSAGE]
-SIGNALS = [
-    5, PASSAGE, (0, 4), ([0, 4],), [(0, 4)], ((0, 4), [0, 4]), ((-1, 4),), ((10, 4),), ((0, 0),), ((0, 11),),
-    ((0, -1),), ((True, 4),), ((0, True),), ((False, 4),), ((0, 4),) * 7, ((0, 4), (0, 11)), ((0, None),), ((0,),),
-    ((0, 4, 1),), ("04",), ((10 ** 99, 4),), ((0, 10 ** 99),)]
-INTEGERS = [SIGNAL, PASSAGE, "7", "-7"]
 LENGTHS = INTEGERS + [0, -1, 11, 10 ** 99]
-PASSAGES = [5, 0, SIGNAL, (10, ((2, 3, 5),)), ((2, 3, 5),), Passage]
 RUNS = [
     5, PASSAGE, (2, 3, 5), [(2, 3, 5)], ([2, 3, 5],), ((2, 3, 5), [6, 7, 9]), ((2, 3),), ((2, 3, 5, 7),), ((),),
     ((True, 3, 5),), ((2, True, 5),), ((False, 3, 5),), ((2, 3, True),), ((2, 3, False),), ((2, 3, None),), (("2", 3, 5),),
@@ -46,13 +29,8 @@ RUNS_ALLOWED = [
     ((2, 11, 5),), ((2, 3, 5), (5, 11, 8)), ((2, 3, 5), (5, 6, 13)), ((2, 3, 5), (5, 5, 14)), ((2, 3, 5), (4, 4, 7)),
     ((2, 2, 5), (3, 3, 6)), ((-8, -7, 10 ** 60),), ((12, 12, 0), (21, 21, 9))]
 
-# Each function with its parameters: a valid value, the error and the wrong values besides OTHERS.
-CYCLE = (10, InvalidCycle, CYCLES)
-SIGNALLED = (SIGNAL, InvalidSignal, SIGNALS)
-MOMENT = (3, InvalidMoment, INTEGERS)
-NUMBER = (3, InvalidNumber, INTEGERS)
+# Each function with its parameters.
 LENGTH = (3, InvalidNumber, LENGTHS)
-TOLD = (PASSAGE, InvalidPassage, PASSAGES)
 CALLS = [
     (is_green, [CYCLE, SIGNALLED, MOMENT]),
     (next_green, [CYCLE, SIGNALLED, MOMENT]),
@@ -73,39 +51,8 @@ CALLS = [
     (lambda other: PASSAGE & other, [TOLD])]
 
 
-class Wrong(unittest.TestCase):
-    def check(self, error, call, *arguments):
-        with self.subTest(call=call, arguments=repr(arguments)[:200]):
-            with self.assertRaises(GreenError) as caught:
-                call(*arguments)
-            self.assertIs(type(caught.exception), error)
-            self.assertIsInstance(str(caught.exception), str)
-
-    def test_valid_arguments_raise_nothing(self):
-        for call, parameters in CALLS:
-            call(*[valid for valid, _, _ in parameters])
-
-    def test_each_parameter(self):
-        for call, parameters in CALLS:
-            valid = [value for value, _, _ in parameters]
-            for at, (_, error, wrong) in enumerate(parameters):
-                for value in OTHERS + wrong:
-                    self.check(error, call, *valid[:at], value, *valid[at + 1:])
-
-    def test_two_at_once(self):
-        for call, parameters in CALLS:
-            valid = [value for value, _, _ in parameters]
-            for at, (_, error, wrong) in enumerate(parameters):
-                for later in range(at + 1, len(parameters)):
-                    for value in (None, True, DEEP_TUPLE, wrong[0]):
-                        for other in (None, False, DEEP_LIST, parameters[later][2][0]):
-                            arguments = list(valid)
-                            arguments[at], arguments[later] = value, other
-                            self.check(error, call, *arguments)
-
-    def test_all_at_once(self):
-        for call, parameters in CALLS:
-            self.check(parameters[0][1], call, *[None for _ in parameters])
+class Wrong(WrongCalls, unittest.TestCase):
+    calls = CALLS
 
     def test_is_signal_raises_for_the_cycle_alone(self):
         for cycle in OTHERS + CYCLES:
