@@ -1,6 +1,5 @@
 """Pieces of roads: travels, signals, and groups of pieces that are put together."""
 from greenroads.passages import travel_of
-from greenroads.signals import next_green
 from greenroads.together import BOTH, SOONER, all_together, repeated, surroundings
 
 TRAVEL = "travel"
@@ -41,20 +40,35 @@ def passes_of(piece):
     return [index for part in piece.parts for index in passes_of(part)] * piece.number
 
 
-def passage_through(cycle, singles, piece):
-    """The passage of a piece, told the list of the passages of the single signals."""
+def passes_ahead(piece):
+    """The tuple (list of the tuples (index, travel ahead of it) of all passes, travel) of a plain piece."""
+    if piece.kind == SIGNAL:
+        return [(piece.number, 0)], 0
+    if piece.kind == TRAVEL:
+        return [], piece.number
+    found, ticks = [], 0
+    for part in list(piece.parts) * piece.number:
+        inner, travel = passes_ahead(part)
+        found.extend([(index, ticks + ahead) for index, ahead in inner])
+        ticks += travel
+    return found, ticks
+
+
+def way_through(travelled, singles, piece):
+    """The passage or course of a piece, told a function that makes those of travels, and the list of the signals'."""
     if piece.kind == SIGNAL:
         return singles[piece.number]
     if piece.kind == TRAVEL:
-        return travel_of(cycle, piece.number)
+        return travelled(piece.number)
     if len(piece.parts) == 0:
-        return travel_of(cycle, 0)
-    return repeated(all_together(piece.kind, passages_through(cycle, singles, piece.parts)), piece.number)
+        return travelled(0)
+    parts = [way_through(travelled, singles, part) for part in piece.parts]
+    return repeated(all_together(piece.kind, parts), piece.number)
 
 
-def passages_through(cycle, singles, pieces):
-    """The list of the passages of pieces."""
-    return [passage_through(cycle, singles, piece) for piece in pieces]
+def passage_through(cycle, singles, piece):
+    """The passage of a piece, told the list of the passages of the single signals."""
+    return way_through(lambda ticks: travel_of(cycle, ticks), singles, piece)
 
 
 def passages_without(cycle, singles, piece):
@@ -62,7 +76,7 @@ def passages_without(cycle, singles, piece):
     if piece.kind == SIGNAL:
         return [(piece.number, travel_of(cycle, 0))]
     found = []
-    around = surroundings(piece.kind, passages_through(cycle, singles, piece.parts))
+    around = surroundings(piece.kind, [passage_through(cycle, singles, part) for part in piece.parts])
     for part, (ahead, behind) in zip(piece.parts, around):
         for index, passage in passages_without(cycle, singles, part):
             once = all_together(piece.kind, [*ahead, passage, *behind])
@@ -70,18 +84,21 @@ def passages_without(cycle, singles, piece):
     return found
 
 
-def driven(cycle, signals, piece, start):
-    """The tuple (list of the signals that are passed, as drive tells them, arrival) of a start."""
+def driven(passes, piece, start):
+    """The tuple (list of the signals that are passed, as drive tells them, arrival) of a start.
+
+    A car that comes to the signal with an index at a moment passes at passes(index, moment).
+    """
     if piece.kind == TRAVEL:
         return [], start + piece.number
     if piece.kind == SIGNAL:
-        passing = next_green(cycle, signals[piece.number], start)
+        passing = passes(piece.number, start)
         return [(piece.number, start, passing)], passing
     if piece.kind in (SOONER, BOTH):
-        return driven_roads(piece.kind, [driven(cycle, signals, road, start) for road in piece.parts])
+        return driven_roads(piece.kind, [driven(passes, road, start) for road in piece.parts])
     seen, moment = [], start
     for part in list(piece.parts) * piece.number:
-        passed, moment = driven(cycle, signals, part, moment)
+        passed, moment = driven(passes, part, moment)
         seen.extend(passed)
     return seen, moment
 

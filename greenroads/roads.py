@@ -1,9 +1,10 @@
 """Roads: written as words, driven by cars, with passages from starts to arrivals."""
-from greenroads.checks import check_cycle, check_moment
-from greenroads.errors import InvalidRoad, OtherCycle, TooLarge
+from greenroads.checks import check_cycle, check_moment, is_whole
+from greenroads.errors import InvalidIndex, InvalidRoad, OtherCycle, TooLarge
 from greenroads.passages import pass_of
 from greenroads.pieces import (
     SIGNAL, TRAVEL, driven, many_leaves, passage_through, passages_without, passes_of, weight_of)
+from greenroads.signals import next_green
 from greenroads.texts import read_text
 
 MOST_LEAVES = 2000
@@ -63,11 +64,27 @@ def check_road(road):
         raise InvalidRoad("this is no road")
 
 
+def is_index(road, value):
+    """Whether any value is the index of a signal of a road."""
+    return is_whole(value) and 0 <= value < len(road.signals)
+
+
+def check_index(road, index):
+    """InvalidIndex unless the value is the index of a signal of a road."""
+    if not is_index(road, index):
+        raise InvalidIndex("the road has no signal with this index")
+
+
+def many_greens(road):
+    """The number of greens of a road, with repeats written out."""
+    return sum([len(road.signals[index]) for index in road.passes])
+
+
 def drive(road, start):
     """The list of the tuples (index of the signal, arrival, moment of passing) of all signals that a car passes."""
     check_road(road)
     check_moment(start)
-    seen, _ = driven(road.cycle, road.signals, road.piece, start)
+    seen, _ = driven(lambda index, moment: next_green(road.cycle, road.signals[index], moment), road.piece, start)
     return seen
 
 

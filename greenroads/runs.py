@@ -84,7 +84,7 @@ def place_of(cycle, runs, start):
     return low, ticks
 
 
-def arrival_with(run, start):
+def arrival_by_run(run, start):
     """The arrival of a start that arrives with a run."""
     first, _, arrival = run
     return arrival + max(0, start - first)
@@ -93,7 +93,7 @@ def arrival_with(run, start):
 def arrival_at(cycle, runs, start):
     """The arrival of a start."""
     at, ticks = place_of(cycle, runs, start)
-    return arrival_with(moved(runs[at], ticks), start)
+    return arrival_by_run(moved(runs[at], ticks), start)
 
 
 def arrivals_at(cycle, runs, starts):
@@ -104,7 +104,7 @@ def arrivals_at(cycle, runs, starts):
     for start in starts:
         while walked[at][1] < start:
             at += 1
-        arrivals.append(arrival_with(walked[at], start))
+        arrivals.append(arrival_by_run(walked[at], start))
     return arrivals
 
 
@@ -120,6 +120,20 @@ def runs_within(cycle, runs, low, high):
         if at == len(runs):
             at, ticks = 0, ticks + cycle
     return found
+
+
+def latest_at(cycle, runs, moment):
+    """The greatest start that arrives at a moment at the latest."""
+    ticks = (moment - runs[0][2]) // cycle * cycle
+    low, high = 0, len(runs) - 1
+    while low < high:
+        middle = (low + high + 1) // 2
+        if runs[middle][2] + ticks <= moment:
+            low = middle
+        else:
+            high = middle - 1
+    first, last, arrival = moved(runs[low], ticks)
+    return min(last, first + moment - arrival)
 
 
 def behind_runs(cycle, runs, others):

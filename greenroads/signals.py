@@ -87,6 +87,14 @@ def shortest_greens(cycle, signal):
     return parted_greens(cycle, signal)
 
 
+def reds_of(cycle, signal):
+    """The longest stretches (first, length) of red moments, by ascending first moments."""
+    greens = parted_greens(cycle, signal)
+    ahead = [*greens[1:], (greens[0][0] + cycle, 0)]
+    reds = [(offset + length, after[0] - offset - length) for (offset, length), after in zip(greens, ahead)]
+    return [red for red in reds if red[1] > 0]
+
+
 def parted_greens(cycle, signal):
     """The greens of a signal, put together where they overlap or touch, by ascending offsets."""
     joined = []
@@ -117,15 +125,26 @@ def first_hit(cycle, begin, step, first, length):
     check_number(step)
     check_number(first)
     check_number_in(length, 1, cycle)
+    # Every step that is met at all is met among the first ones, as many as the cycle has moments.
+    return met_within(cycle, begin, step, (first, length), cycle)
+
+
+def met_within(cycle, begin, step, stretch, most):
+    """The same for a stretch (first, length), without checks; what is returned above `most` may be None instead."""
+    first, length = stretch
     if (begin - first) % cycle < length:
         return 0
     ahead = (first - begin) % cycle
-    return least_factor(cycle, step % cycle, ahead, ahead + length - 1)
+    return least_factor(cycle, step % cycle, ahead, ahead + length - 1, most)
 
 
-def least_factor(modulus, step, low, high):
-    """The least n with low <= n * step modulo modulus <= high, for 0 < low <= high < modulus; None without any."""
+def least_factor(whole, step, low, high, most):
+    """The least n with low <= n * step modulo whole <= high, for 0 < low <= high < whole; None without any.
+
+    It may be None, too, if n is greater than most.
+    """
     outer = []
+    modulus = whole
     while step > 0:
         count = -(-low // step)
         if count * step <= high:
@@ -134,6 +153,9 @@ def least_factor(modulus, step, low, high):
         # question modulo step, and the numbers fall as in Euclid's algorithm.
         outer.append((modulus, step, low))
         modulus, step, low, high = step, modulus % step, -high % step, -low % step
+        # The factor asked for here is at least 1, and each one outside is greater in the proportion of the moduli.
+        if most * modulus < whole:
+            return None
     return None
 
 

@@ -15,15 +15,18 @@ PARTING = {"|": "{", "&": "<"}
 CLOSING = {"}": "{", ">": "<"}
 
 
-def number_in(digits, most):
-    """The number that a text writes, or None if it writes none from 0 to most without leading zeros."""
+def number_of(digits, longest):
+    """The number that a text writes, or None if it writes none without leading zeros, or in more digits."""
     if not digits.isascii() or not digits.isdigit() or (digits[0] == "0" and digits != "0"):
         return None
     # Python refuses to read a number of thousands of digits.
-    if len(digits) > len(str(most)):
-        return None
-    number = int(digits)
-    return number if number <= most else None
+    return int(digits) if len(digits) <= longest else None
+
+
+def number_in(digits, most):
+    """The number that a text writes, or None if it writes none from 0 to most without leading zeros."""
+    number = number_of(digits, len(str(most)))
+    return number if number is not None and number <= most else None
 
 
 def green_in(text):

@@ -1,9 +1,13 @@
 """The examples of the document, as it writes them."""
 import unittest
 
+from greenroads.courses import Course, breaks, course_of, greatest_loss, settled_from
 from greenroads.errors import InvalidText
+from greenroads.nets import Net, loss, useless_streets
 from greenroads.passages import Passage, first_difference, gaps, pass_of, platoons, travel_of
 from greenroads.roads import Road, drive, needless_signals
+from greenroads.rounds import (
+    after_laps, first_wait, free_offsets, free_starts, pace, ring, total_wait, wait_points)
 from greenroads.signals import count_green, first_hit, last_green, next_green, shortest_greens
 from greenroads.starts import best_start, count_within, nth_within, total_time, worst_start
 from greenroads.windows import fewest_windows, from_windows, road_of
@@ -64,6 +68,30 @@ class Examples(unittest.TestCase):
         self.assertEqual(found, [[(2, 3, 3)], [(0, 1, 5), (0, 9, 9)], [(6, 11, 9)]])
         self.assertEqual([road_of(one).text, road_of(two | nine).text], ["s:2+2 3", "{ s:0+2 5 | 9 }"])
         self.assertIs(from_windows(10, [(0, 1, 5), (0, 9, 9)]) == two | nine, True)
+
+    def test_rounds(self):
+        road = Road(10, "s:0+3,5+3 5")
+        found = [free_starts(road), first_wait(road, 3), after_laps(road, 3, 2), total_wait(road, 3, 10 ** 30), pace(road)]
+        self.assertEqual(found, [(5, [(0, 2)]), (0, 0, 3, 5), 15, 2, (5, 1)])
+        road = Road(10, "s:0+6 1")
+        found = [free_starts(road), wait_points(road), first_wait(road, 0), ring(road, 0), pace(road)]
+        self.assertEqual(found, [(1, []), [(0, 0)], (6, 0, 6, 10), (0, [(0, 0)], 6, 10), (5, 3)])
+        self.assertEqual(after_laps(road, 0, 7), 11)
+        self.assertEqual(free_offsets(Road(10, "s:0+3,5+3 4 s:0+1,5+1 1"), 1), (5, [(0, 1), (4, 4)]))
+
+    def test_nets(self):
+        net = Net(10, [("a", "b", "s:0+2 5"), ("a", "b", "9"), ("b", "c", "s:5+4 1"), ("c", "a", "2")])
+        found = [net.earliest("a", 2, "c"), net.route("a", 0, "c"), net.passages("a")["c"].runs, useless_streets(net)]
+        self.assertEqual(found, [16, [0, 2], ((0, 1, 6),), []])
+        found = [loss(net, 1, "a", "b"), loss(net, 1, "a", "c"), loss(net, 2, "a", "c")]
+        self.assertEqual(found, [(4, 2), (0, 0), None])
+
+    def test_courses(self):
+        old, new = Passage(10, ((0, 2, 4),)), Passage(10, ((6, 8, 10),))
+        course = Course(10, ((12, old), (15, 20), (None, new)))
+        found = [course(12), course(13), course(16), settled_from(course)[0], course == Course(10, ((12, old), (None, new)))]
+        self.assertEqual(found, [16, 20, 20, 13, True])
+        self.assertEqual([greatest_loss(course, course_of(old)), breaks(course)], [(6, 19), [12]])
 
 
 if __name__ == "__main__":

@@ -17,13 +17,29 @@ LISTED = {
         "count_within": "passage most low high", "nth_within": "passage most index", "total_time": "passage low high",
         "worst_start": "passage", "best_start": "passage"},
     "greenroads.windows": {
-        "from_windows": "cycle windows", "fewest_windows": "passage", "road_of": "passage"}}
+        "from_windows": "cycle windows", "fewest_windows": "passage", "road_of": "passage"},
+    "greenroads.rounds": {
+        "after_laps": "road start laps", "total_wait": "road start laps", "first_wait": "road start",
+        "free_starts": "road", "wait_points": "road", "next_wait": "road point", "ring": "road start", "pace": "road",
+        "free_offsets": "road index"},
+    "greenroads.nets": {
+        "Net": "cycle streets", "is_route": "net begin goal value", "useless_streets": "net",
+        "loss": "net index begin goal", "same_nets": "net other"},
+    "greenroads.courses": {
+        "Course": "cycle parts", "course_of": "passage", "breaks": "course", "settled_from": "course",
+        "course_difference": "one other", "greatest_loss": "one other"}}
 METHODS = {
     ("greenroads.passages", "Passage"): {
         "__init__": "self cycle runs", "__call__": "self start", "__add__": "self other", "__or__": "self other",
         "__and__": "self other", "__eq__": "self other", "latest": "self"},
     ("greenroads.roads", "Road"): {
-        "__init__": "self cycle text", "__call__": "self start", "__eq__": "self other", "passage": "self"}}
+        "__init__": "self cycle text", "__call__": "self start", "__eq__": "self other", "passage": "self"},
+    ("greenroads.nets", "Net"): {
+        "__init__": "self cycle streets", "__eq__": "self other", "earliest": "self begin moment goal",
+        "route": "self begin moment goal", "passages": "self begin"},
+    ("greenroads.courses", "Course"): {
+        "__init__": "self cycle parts", "__call__": "self start", "__add__": "self other", "__or__": "self other",
+        "__and__": "self other", "__eq__": "self other"}}
 
 
 def words_of(callable_thing):
@@ -98,6 +114,50 @@ class Interface(unittest.TestCase):
         self.assertTrue(all(type(row) is tuple for row in found))
         self.assertIs(type(windows.from_windows(10, found)), passages.Passage)
         self.assertEqual(type(windows.road_of(passage)).__name__, "Road")
+
+    def test_kinds_of_what_rounds_return(self):
+        rounds = importlib.import_module("greenroads.rounds")
+        roads = importlib.import_module("greenroads.roads")
+        road = roads.Road(10, "s:0+6 1")
+        for found in (rounds.after_laps(road, 0, 7), rounds.total_wait(road, 0, 7)):
+            self.assertIs(type(found), int)
+        for found in (rounds.first_wait(road, 0), rounds.pace(road)):
+            self.assertIs(type(found), tuple)
+            self.assertTrue(all(type(part) is int for part in found))
+        for found in (rounds.free_starts(road), rounds.free_offsets(road, 0)):
+            self.assertEqual([type(found), type(found[0]), type(found[1])], [tuple, int, list])
+        self.assertEqual([type(row) for row in rounds.free_starts(roads.Road(10, "s:0+3,5+3 5"))[1]], [tuple])
+        self.assertEqual([type(rounds.wait_points(road)), type(rounds.wait_points(road)[0])], [list, tuple])
+        self.assertEqual([type(part) for part in rounds.next_wait(road, (0, 0))], [int, tuple])
+        self.assertEqual([type(part) for part in rounds.ring(road, 0)], [int, list, int, int])
+        self.assertEqual([type(rounds.next_wait(road, (0, 0))), type(rounds.ring(road, 0))], [tuple, tuple])
+
+    def test_kinds_of_what_nets_return(self):
+        nets = importlib.import_module("greenroads.nets")
+        net = nets.Net(10, [("a", "b", "s:0+2 5"), ("a", "b", "9"), ("b", "c", "s:5+4 1"), ("c", "a", "2")])
+        self.assertEqual([type(net.cycle), type(net.streets), type(net.places)], [int, tuple, list])
+        self.assertEqual([type(net.earliest("a", 2, "c")), type(net.route("a", 2, "c"))], [int, list])
+        found = net.passages("a")
+        self.assertEqual([type(found), list(found)], [dict, ["a", "b", "c"]])
+        self.assertEqual({type(passage).__name__ for passage in found.values()}, {"Passage"})
+        self.assertEqual([type(nets.useless_streets(net)), type(nets.is_route(net, "a", "b", [0]))], [list, bool])
+        self.assertEqual([type(nets.loss(net, 1, "a", "b")), type(nets.same_nets(net, net))], [tuple, bool])
+
+    def test_kinds_of_what_courses_return(self):
+        courses = importlib.import_module("greenroads.courses")
+        passages = importlib.import_module("greenroads.passages")
+        old, new = passages.Passage(10, ((0, 2, 4),)), passages.Passage(10, ((6, 8, 10),))
+        course = courses.Course(10, ((12, old), (15, 20), (None, new)))
+        self.assertEqual([type(course.cycle), type(course.parts), type(course(3))], [int, tuple, int])
+        self.assertTrue(all(type(part) is tuple for part in course.parts))
+        for found in (course + course, course | course, course & course, courses.course_of(old)):
+            self.assertIs(type(found), courses.Course)
+            self.assertTrue(all(type(what) in (int, passages.Passage) for _, what in found.parts))
+        self.assertEqual([type(courses.breaks(course)), type(courses.settled_from(course))], [list, tuple])
+        self.assertEqual([type(part) for part in courses.settled_from(course)], [int, passages.Passage])
+        other = courses.course_of(old)
+        self.assertEqual([type(courses.course_difference(course, other)), type(courses.greatest_loss(course, other))],
+                         [int, tuple])
 
 
 if __name__ == "__main__":

@@ -33,6 +33,57 @@ BARRED = set(
 STATEMENTS = (ast.Global, ast.AsyncFunctionDef, ast.Await, ast.AsyncFor, ast.AsyncWith)
 
 
+# Methods of lists and dicts that modify them.
+MODIFYING = set("append clear extend insert pop remove reverse setdefault update sort".split())
+OPERATORS = set("__add__ __or__ __and__ __eq__ __len__".split())
+OWN_DOUBLE = OPERATORS | {"__init__", "__call__"}
+# What gives a new list or dict.
+MAKERS = set("list dict sorted set".split())
+
+
+def run_by_operators():
+    """The functions and methods that operators and properties run, with their files."""
+    known, queue = {}, []
+    for path, tree in trees():
+        for node in tree.body:
+            if isinstance(node, ast.FunctionDef):
+                known.setdefault(node.name, []).append((path, node))
+            if isinstance(node, ast.ClassDef):
+                for inner in node.body:
+                    if isinstance(inner, ast.FunctionDef):
+                        known.setdefault(node.name if inner.name == "__init__" else inner.name, []).append((path, inner))
+                        if inner.name in OPERATORS or inner.decorator_list:
+                            queue.append((path, inner))
+    found = {}
+    while queue:
+        path, node = queue.pop()
+        if id(node) not in found:
+            found[id(node)] = (path, node)
+            for inner in ast.walk(node):
+                if isinstance(inner, ast.Call):
+                    name = inner.func.id if isinstance(inner.func, ast.Name) else getattr(inner.func, "attr", "")
+                    # Methods of lists have the names of none of our own.
+                    queue.extend(known.get(name, []))
+    return list(found.values())
+
+
+def new_values(node):
+    """The local names that a function assigns nothing but new lists and dicts."""
+    made, other = set(), {arg.arg for arg in node.args.args}
+    for inner in ast.walk(node):
+        if isinstance(inner, ast.Assign):
+            pairs = [(target, inner.value) for target in inner.targets]
+            if isinstance(inner.targets[0], ast.Tuple) and isinstance(inner.value, ast.Tuple):
+                pairs = list(zip(inner.targets[0].elts, inner.value.elts))
+            for target, value in pairs:
+                new = isinstance(value, (ast.List, ast.Dict, ast.ListComp, ast.DictComp)) or (
+                    isinstance(value, ast.Call) and isinstance(value.func, ast.Name) and value.func.id in MAKERS)
+                for name in ast.walk(target):
+                    if isinstance(name, ast.Name) and isinstance(name.ctx, ast.Store):
+                        (made if new else other).add(name.id)
+    return made - other
+
+
 def trees():
     for path in FILES:
         yield path, ast.parse(path.read_text("ascii"))
@@ -139,7 +190,28 @@ class Language(unittest.TestCase):
             for node in tree.body:
                 if isinstance(node, ast.Assign):
                     self.assertTrue(len(node.targets) == 1 and isinstance(node.targets[0], ast.Name), path)
-                    self.assertFalse([inner for inner in ast.walk(node.value) if isinstance(inner, ast.Name)], path)
+                    # Tables may hold functions that are defined above.
+                    names = [inner.id for inner in ast.walk(node.value) if isinstance(inner, ast.Name)]
+                    self.assertTrue(not names or isinstance(node.value, (ast.Dict, ast.List, ast.Tuple)), path)
+                    above = [inner.name for inner in tree.body[:tree.body.index(node)]
+                             if isinstance(inner, ast.FunctionDef)]
+                    self.assertFalse(set(names) - set(above), path)
+
+    def test_tables_at_module_level_are_only_read(self):
+        tables = {}
+        for path, tree in trees():
+            tables[path] = {node.targets[0].id for node in tree.body
+                            if isinstance(node, ast.Assign) and isinstance(node.value, (ast.Dict, ast.List))}
+        named = {name for names in tables.values() for name in names}
+        for path, tree in trees():
+            above = parents(tree)
+            for node in ast.walk(tree):
+                if isinstance(node, ast.Name) and node.id in named and isinstance(node.ctx, ast.Load):
+                    over = above[node]
+                    read = isinstance(over, ast.Subscript) and over.value is node and isinstance(over.ctx, ast.Load)
+                    held = isinstance(over, ast.Compare) and isinstance(over.ops[0], (ast.In, ast.NotIn))
+                    copied = isinstance(over, ast.Call) and over.func.id in ("dict", "list", "sorted", "len")
+                    self.assertTrue(read or held or copied, (path, node.lineno))
 
     def test_names_of_imports_and_classes_are_bound_once(self):
         for path, tree in trees():
@@ -203,6 +275,60 @@ class Language(unittest.TestCase):
                     self.assertTrue(isinstance(node.right, ast.Constant) and 0 <= node.right.value <= 64, where)
                 if isinstance(node, ast.Compare) and isinstance(node.ops[0], (ast.Is, ast.IsNot)):
                     self.assertIsInstance(node.comparators[0], ast.Constant, where)
+
+    def test_operators_and_properties_change_nothing(self):
+        for path, node in run_by_operators():
+            taken = {arg.arg for arg in node.args.args}
+            made = new_values(node)
+            for inner in ast.walk(node):
+                where = path, getattr(inner, "lineno", 0)
+                self.assertNotIsInstance(inner, (ast.Lambda, ast.Yield, ast.YieldFrom, ast.Delete, ast.Nonlocal), where)
+                if isinstance(inner, ast.Call):
+                    # It calls nothing that it is passed or holds, nor anything out of a list.
+                    self.assertNotIsInstance(inner.func, (ast.Subscript, ast.Call), where)
+                    self.assertFalse(isinstance(inner.func, ast.Name) and inner.func.id in taken, where)
+                    if isinstance(inner.func, ast.Attribute) and inner.func.attr in MODIFYING:
+                        self.assertTrue(isinstance(inner.func.value, ast.Name) and inner.func.value.id in made, where)
+                if isinstance(inner, ast.AugAssign):
+                    plain = isinstance(inner.value, ast.Constant) and isinstance(inner.value.value, int)
+                    self.assertTrue(isinstance(inner.target, ast.Name) and plain, where)
+                if isinstance(inner, ast.Subscript) and isinstance(inner.ctx, ast.Store):
+                    self.assertTrue(isinstance(inner.value, ast.Name) and inner.value.id in made, where)
+                if isinstance(inner, ast.Attribute) and isinstance(inner.ctx, ast.Store):
+                    self.assertTrue(node.name == "__init__" and inner.value.id == "self", where)
+
+    def test_decorators_stand_over_methods_alone(self):
+        for path, tree in trees():
+            methods = [inner for node in tree.body if isinstance(node, ast.ClassDef) for inner in node.body]
+            for node in ast.walk(tree):
+                if isinstance(node, ast.FunctionDef) and node.decorator_list:
+                    self.assertIn(node, methods, path)
+                    self.assertEqual([name.id for name in node.decorator_list], ["property"], path)
+                    self.assertEqual([arg.arg for arg in node.args.args], ["self"], path)
+                self.assertFalse(isinstance(node, ast.ClassDef) and node.decorator_list, path)
+
+    def test_names_of_methods_and_properties(self):
+        values = {name for kind in (str, int, list, dict, set, bytes) for name in dir(kind)}
+        allowed = {"add", "discard"}
+        for path, tree in trees():
+            for node in ast.walk(tree):
+                if isinstance(node, ast.ClassDef):
+                    own = {inner.name for inner in node.body if isinstance(inner, ast.FunctionDef)}
+                    self.assertFalse((own & values) - allowed - OWN_DOUBLE, (path, node.name))
+
+    def test_generators_and_sets_are_not_kept(self):
+        for path, tree in trees():
+            for node in ast.walk(tree):
+                self.assertNotIsInstance(node, (ast.Yield, ast.YieldFrom, ast.Set, ast.SetComp), path)
+
+    def test_calls_of_the_library(self):
+        for path, tree in trees():
+            names = {name.name for node in tree.body if isinstance(node, ast.ImportFrom) and node.module in LIBRARY
+                     for name in node.names}
+            called = [node.func for node in ast.walk(tree) if isinstance(node, ast.Call)]
+            for node in ast.walk(tree):
+                if isinstance(node, ast.Name) and node.id in names:
+                    self.assertIn(node, called, (path, node.lineno))
 
     def test_one_lambda_on_a_line(self):
         for path, tree in trees():
