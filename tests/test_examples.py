@@ -1,11 +1,15 @@
 """The examples of the document, as it writes them."""
 import unittest
 
+from greenroads.console import Console
 from greenroads.courses import Course, breaks, course_of, greatest_loss, settled_from
-from greenroads.errors import InvalidText
+from greenroads.errors import Contradiction, InvalidText
 from greenroads.nets import Net, loss, useless_streets
 from greenroads.passages import Passage, first_difference, gaps, pass_of, platoons, travel_of
+from greenroads.plans import course_with, drive_with, first_touched, net_courses, worst_loss
+from greenroads.records import certain, highest, lowest, widest
 from greenroads.roads import Road, drive, needless_signals
+from greenroads.rooms import ClockRoom, Room
 from greenroads.rounds import (
     after_laps, first_wait, free_offsets, free_starts, pace, ring, total_wait, wait_points)
 from greenroads.signals import count_green, first_hit, last_green, next_green, shortest_greens
@@ -92,6 +96,40 @@ class Examples(unittest.TestCase):
         found = [course(12), course(13), course(16), settled_from(course)[0], course == Course(10, ((12, old), (None, new)))]
         self.assertEqual(found, [16, 20, 20, 13, True])
         self.assertEqual([greatest_loss(course, course_of(old)), breaks(course)], [(6, 19), [12]])
+
+    def test_plans(self):
+        road, changes = Road(10, "s:0+3 4"), [(15, 0, ((6, 3),))]
+        found = [course_with(road, changes)(start) for start in [12, 13, 16, 17]]
+        self.assertEqual(found, [16, 20, 20, 21])
+        found = [drive_with(road, changes, 13), first_touched(road, changes), worst_loss(road, changes)]
+        self.assertEqual(found, [[(0, 13, 16)], 13, (6, 19)])
+        net = Net(10, [("a", "b", "s:0+3 4"), ("b", "c", "1")])
+        self.assertEqual(net_courses(net, [(15, 0, 0, ((6, 3),))], "a")["c"](13), 21)
+
+    def test_records(self):
+        records = [(0, 5), (3, 6)]
+        found = [lowest(10, 2, records).runs, highest(10, 2, records).runs]
+        self.assertEqual(found, [((2, 2, 5), (4, 9, 6)), ((0, 0, 5), (3, 3, 6))])
+        found = [certain(10, 2, records, 13), certain(10, 2, records, 12), widest(10, 2, records)]
+        self.assertEqual(found, [16, None, (9, 4)])
+        with self.assertRaises(Contradiction) as caught:
+            lowest(10, 2, [(0, 5), (3, 4)])
+        self.assertEqual((caught.exception.first, caught.exception.second), (0, 1))
+
+    def test_rooms(self):
+        room = Room(Road(10, "s:0+3 4"))
+        found = [room.plan(0, ((6, 3),), 15), room.arrival(13), room.shift(0, 5, 30), room.changes[1]]
+        self.assertEqual(found + [room.signal_at(0, 29)], [1, 20, ((1, 3),), (30, 0, ((1, 3),)), ((6, 3),)])
+        found = [room.preview(("drop", 0, 15), ("plan", 0, ((2, 1),), 40)), room.undo(), len(room), room.log()]
+        self.assertEqual(found, [[((6, 3),), 2], None, 1, ["plan"]])
+        self.assertEqual(ClockRoom(Road(10, "5"), 7).advance(3), 10)
+
+    def test_console(self):
+        console = Console()
+        rows = ["road 10 s:0+3,5+3 5", "at 3", "drive -1", "runs", "free", "laps 3 2"]
+        self.assertEqual([console.execute(row) for row in rows], ["ok", "10", "0 -1 0", "0 2 5;5 7 10", "5;0 2", "15"])
+        rows = ["plan 0 6+3 15", "at 13", "changes", "undo", "changes"]
+        self.assertEqual([console.execute(row) for row in rows], ["1", "21", "15 0 6+3", "ok", "-"])
 
 
 if __name__ == "__main__":

@@ -27,7 +27,16 @@ LISTED = {
         "loss": "net index begin goal", "same_nets": "net other"},
     "greenroads.courses": {
         "Course": "cycle parts", "course_of": "passage", "breaks": "course", "settled_from": "course",
-        "course_difference": "one other", "greatest_loss": "one other"}}
+        "course_difference": "one other", "greatest_loss": "one other"},
+    "greenroads.plans": {
+        "course_with": "road changes", "arrival_with": "road changes start", "drive_with": "road changes start",
+        "first_touched": "road changes", "worst_loss": "road changes",
+        "net_earliest": "net changes begin moment goal", "net_courses": "net changes begin"},
+    "greenroads.records": {
+        "fits": "cycle travel records", "lowest": "cycle travel records", "highest": "cycle travel records",
+        "certain": "cycle travel records start", "widest": "cycle travel records"},
+    "greenroads.rooms": {"Room": "road", "ClockRoom": "road moment"},
+    "greenroads.console": {"Console": ""}}
 METHODS = {
     ("greenroads.passages", "Passage"): {
         "__init__": "self cycle runs", "__call__": "self start", "__add__": "self other", "__or__": "self other",
@@ -39,7 +48,17 @@ METHODS = {
         "route": "self begin moment goal", "passages": "self begin"},
     ("greenroads.courses", "Course"): {
         "__init__": "self cycle parts", "__call__": "self start", "__add__": "self other", "__or__": "self other",
-        "__and__": "self other", "__eq__": "self other"}}
+        "__and__": "self other", "__eq__": "self other"},
+    ("greenroads.rooms", "Room"): {
+        "__init__": "self road", "__len__": "self", "__eq__": "self other", "course": "self",
+        "signal_at": "self index moment", "arrival": "self start", "plan": "self index signal moment",
+        "shift": "self index ticks moment", "drop": "self index moment", "undo": "self", "log": "self",
+        "preview": "self steps"},
+    ("greenroads.rooms", "ClockRoom"): {
+        "__init__": "self road moment", "__eq__": "self other", "plan": "self index signal moment",
+        "shift": "self index ticks moment", "drop": "self index moment", "advance": "self ticks",
+        "preview": "self steps"},
+    ("greenroads.console", "Console"): {"__init__": "self", "execute": "self command"}}
 
 
 def words_of(callable_thing):
@@ -158,6 +177,59 @@ class Interface(unittest.TestCase):
         other = courses.course_of(old)
         self.assertEqual([type(courses.course_difference(course, other)), type(courses.greatest_loss(course, other))],
                          [int, tuple])
+
+    def test_kinds_of_what_plans_return(self):
+        plans = importlib.import_module("greenroads.plans")
+        roads = importlib.import_module("greenroads.roads")
+        nets = importlib.import_module("greenroads.nets")
+        road, changes = roads.Road(10, "s:0+3 4"), [(15, 0, ((6, 3),))]
+        self.assertEqual(type(plans.course_with(road, changes)).__name__, "Course")
+        self.assertEqual([type(plans.arrival_with(road, changes, 3)), type(plans.first_touched(road, changes))],
+                         [int, int])
+        found = plans.drive_with(road, changes, 3)
+        self.assertEqual([type(found), type(found[0]), type(plans.worst_loss(road, changes))], [list, tuple, tuple])
+        net = nets.Net(10, [("a", "b", "s:0+3 4"), ("b", "c", "1")])
+        found = plans.net_courses(net, [(15, 0, 0, ((6, 3),))], "a")
+        self.assertEqual([type(found), list(found)], [dict, ["a", "b", "c"]])
+        self.assertEqual({type(course).__name__ for course in found.values()}, {"Course"})
+        self.assertIs(type(plans.net_earliest(net, [], "a", 3, "c")), int)
+
+    def test_kinds_of_what_records_return(self):
+        records = importlib.import_module("greenroads.records")
+        rows = [(0, 5), (3, 6)]
+        self.assertIs(type(records.fits(10, 2, rows)), bool)
+        for found in (records.lowest(10, 2, rows), records.highest(10, 2, rows)):
+            self.assertEqual(type(found).__name__, "Passage")
+        self.assertEqual([type(records.certain(10, 2, rows, 3)), type(records.widest(10, 2, rows))], [int, tuple])
+
+    def test_kinds_of_what_rooms_return(self):
+        rooms = importlib.import_module("greenroads.rooms")
+        roads = importlib.import_module("greenroads.roads")
+        console = importlib.import_module("greenroads.console").Console()
+        road = roads.Road(10, "s:0+3 4")
+        for room in (rooms.Room(road), rooms.ClockRoom(road, 3)):
+            self.assertIsInstance(room, rooms.Room)
+            self.assertEqual([type(room.plan(0, ((6, 3),), 15)), type(room.shift(0, 1, 20))], [int, tuple])
+            self.assertEqual([type(room.changes), type(room.changes[0]), type(len(room))], [list, tuple, int])
+            self.assertEqual([type(room.signal_at(0, 3)), type(room.arrival(3)), type(room.log())], [tuple, int, list])
+            self.assertEqual([type(room.course()).__name__, type(room.road)], ["Course", roads.Road])
+            self.assertEqual([type(room.preview(("drop", 0, 15))), type(room.drop(0, 15)), room.undo()],
+                             [list, tuple, None])
+        self.assertEqual([type(room.now), type(room.advance(3))], [int, int])
+        self.assertIs(type(console.execute("road 10 5")), str)
+
+    def test_attributes_are_set_when_an_object_is_made(self):
+        for path, name, arguments, names in [
+                ("passages", "Passage", (10, ((2, 3, 5),)), "cycle runs"),
+                ("roads", "Road", (10, "5"), "cycle text signals passes is_plain travel"),
+                ("nets", "Net", (10, [("a", "b", "1")]), "cycle streets places"),
+                ("courses", "Course", (10, ((None, 5),)), "cycle parts")]:
+            made = getattr(importlib.import_module(f"greenroads.{path}"), name)(*arguments)
+            self.assertTrue(all(hasattr(made, attribute) for attribute in names.split(" ")))
+        rooms = importlib.import_module("greenroads.rooms")
+        road = importlib.import_module("greenroads.roads").Road(10, "5")
+        self.assertTrue(all(hasattr(rooms.ClockRoom(road, 3), name) for name in ("road", "changes", "now")))
+        self.assertTrue(all(hasattr(rooms.Room(road), name) for name in ("road", "changes")))
 
 
 if __name__ == "__main__":

@@ -41,6 +41,8 @@ class WrongCalls:
     """The checks of calls, a list of functions with their parameters, for a test case."""
 
     calls = []
+    # Of the OTHERS, those that some parameter takes.
+    taken = []
 
     def check(self, error, call, *arguments):
         with self.subTest(call=call, arguments=repr(arguments)[:200]):
@@ -57,7 +59,7 @@ class WrongCalls:
         for call, parameters in self.calls:
             valid = [value for value, _, _ in parameters]
             for at, (_, error, wrong) in enumerate(parameters):
-                for value in others_of(valid[at]) + wrong:
+                for value in [value for value in others_of(valid[at]) if value not in self.taken] + wrong:
                     self.check(error, call, *valid[:at], value, *valid[at + 1:])
 
     def test_two_at_once(self):
