@@ -3,7 +3,7 @@ from greenroads.checks import check_cycle, check_moment, is_whole
 from greenroads.errors import InvalidCourse, InvalidParts, OtherCycle
 from greenroads.lines import first_apart, greatest_apart, is_passage, last_apart
 from greenroads.parts import (
-    arrival_in, falls, fewest_parts, parts_behind, parts_both, parts_sooner, shared_stretches, stretches_of_parts)
+    arrival_in, falls, fewest_parts, parts_behind, parts_both, parts_sooner, shared_stretches)
 from greenroads.passages import Passage, check_passage
 
 
@@ -107,11 +107,11 @@ def settled_from(course):
     _, runs = course.ways[-1]
     if not is_passage(runs):
         return None
-    for low, until, way in stretches_of_parts(course.ways)[-2::-1]:
-        apart = last_apart(course.cycle, runs, way, low, until)
-        if apart is not None:
-            return max(0, apart + 1), course.parts[-1][1]
-    return 0, course.parts[-1][1]
+    if len(course.ways) == 1:
+        return 0, course.parts[-1][1]
+    # Some start of the part before arrives otherwise: if not, that part would be longer.
+    until, way = course.ways[-2]
+    return max(0, last_apart(course.cycle, runs, way, until) + 1), course.parts[-1][1]
 
 
 def stretches_from_zero(one, other):

@@ -105,23 +105,14 @@ def first_apart(cycle, way, other, low, high):
     return behind if high is None or behind <= high else None
 
 
-def last_apart(cycle, runs, way, low, high):
-    """The greatest start from low to high with other arrivals by a way than by runs, or None; low may be None."""
-    if runs == way:
-        return None
-    if is_passage(way):
-        begin = high - cycle + 1
-        begin = begin if low is None else max(low, begin)
-        for _, end, early, late, other_early, other_late in lines_of_both(cycle, runs, way, begin, high)[::-1]:
-            if late != other_late:
-                return end
-            if early != other_early:
-                return end - 1
-        return None
-    if arrival_at(cycle, runs, high) != way:
-        return high
-    before = latest_at(cycle, runs, way - 1)
-    return before if low is None or low <= before else None
+def last_apart(cycle, runs, way, high):
+    """The greatest start up to high with other arrivals by a way than by runs; there must be some."""
+    if not is_passage(way):
+        return high if arrival_at(cycle, runs, high) != way else latest_at(cycle, runs, way - 1)
+    lines = lines_of_both(cycle, runs, way, high - cycle + 1, high)
+    _, end, _, late, _, other_late = [line for line in lines if line[2:4] != line[4:]][-1]
+    # In one line both can come together at the last start alone.
+    return end if late != other_late else end - 1
 
 
 def greatest_apart(cycle, way, other, low, high):

@@ -113,10 +113,7 @@ def first_later(one, other):
 
 def greatest_difference(one, other):
     """The tuple (greatest arrival with one less the arrival with other, least start from 0 on with it)."""
-    best = None
-    for low, high, early, late, other_early, other_late in stretches(one.cycle, one.runs, other.runs):
-        # In a stretch the difference stays, or it rises or falls by a tick with each start.
-        found = (early - other_early, low) if late - other_late <= early - other_early else (late - other_late, high)
-        if best is None or found[0] > best[0]:
-            best = found
-    return best
+    # Where the difference rises in a stretch, it is still greater at the start behind it.
+    rows = stretches(one.cycle, one.runs, other.runs)
+    low, _, early, _, other_early, _ = max(rows, key=lambda row: row[2] - row[4])
+    return early - other_early, low

@@ -77,8 +77,8 @@ def certain(cycle, travel, records, start):
     """The arrival of a start if it is the same with all passages that have the records, otherwise None."""
     check_records(cycle, travel, records)
     check_moment(start)
-    low, high = lowest(cycle, travel, records)(start), highest(cycle, travel, records)(start)
-    return low if low == high else None
+    low, high = lowest(cycle, travel, records), highest(cycle, travel, records)
+    return low(start) if low(start) == high(start) else None
 
 
 def widest(cycle, travel, records):

@@ -216,7 +216,6 @@ class GreatNets(unittest.TestCase):
             seed, places, many = source.randrange(10 ** 9), source.choice([2, 3, 5]), source.randint(1, 8)
             small = Net(cycle, chance_streets(random.Random(seed), cycle, places, many))
             great = Net(cycle * times, chance_streets(random.Random(seed), cycle, places, many, 1, times))
-            self.assertEqual(useless_streets(great), useless_streets(small))
             for begin in small.places:
                 found, wanted = great.passages(begin), small.passages(begin)
                 self.assertEqual(list(found), list(wanted))

@@ -142,24 +142,25 @@ class SmallPlans(unittest.TestCase):
 
 class LimitsOfPlans(unittest.TestCase):
     def test_pairs(self):
-        road = Road(10, "( s:0+3 4 )5 ( s:5+3 )20")
+        road = Road(10, "( s:0+3 4 )5 ( s:5+3 )20 s:1+9")
         changes = [(moment, 0, ((moment % 10, 3),)) for moment in range(20)]
         self.assertEqual(course_with(road, changes)(30), changed_arrival(10, road.text, changes, 30))
         for start in (-40, 0, 15):
             self.assertEqual(arrival_with(road, changes, start), changed_arrival(10, road.text, changes, start))
         changes = [(moment, 1, ((moment % 10, 3),)) for moment in range(5)]
         self.assertEqual(course_with(road, changes)(-3), changed_arrival(10, road.text, changes, -3))
-        for more in ([(99, 0, ((0, 1),))], [(99, 1, ((0, 1),))]):
+        # 101, 105 and 120 of them.
+        for more in ([(99, 2, ((0, 1),))], [(99, 0, ((0, 1),))], [(99, 1, ((0, 1),))]):
             for call in (course_with, first_touched, worst_loss):
                 self.check_limit(100, call, road, changes + more)
             for call in (arrival_with, drive_with):
                 # It comes ahead of the errors of further parameters.
                 for start in (3, None):
                     self.check_limit(100, call, road, changes + more, start)
-        net = Net(10, [("a", "b", "( s:0+3 4 )5 1"), ("a", "c", "( s:5+3 )20 1")])
+        net = Net(10, [("a", "b", "( s:0+3 4 )5 1"), ("a", "c", "( s:5+3 )20 1"), ("c", "a", "s:0+3 1")])
         changes = [(moment, 1, 0, ((moment % 10, 3),)) for moment in range(5)]
         self.assertEqual(net_earliest(net, changes, "a", 3, "c"), net_courses(net, changes, "a")["c"](3))
-        changes.append((99, 0, 0, ((0, 1),)))
+        changes.append((99, 2, 0, ((0, 1),)))
         self.check_limit(100, net_courses, net, changes, None)
         self.check_limit(100, net_earliest, net, changes, None, None, None)
 
