@@ -143,6 +143,8 @@ class SmallRounds(unittest.TestCase):
         # The first wait may be far behind the start of a lap, and several may be in one lap.
         self.assertEqual(first_wait(Road(10, "s:0+1 10 s:3+9 10 s:2+1"), 0), (0, 2, 20, 22))
         self.assertEqual(ring(Road(10, "s:0+1 s:1+1 s:2+1 1"), 5), (0, [(0, 0), (1, 1), (2, 2)], 1, 10))
+        # The pass ahead of the wait point is met a lap later than the one behind it, which is met over the end.
+        self.assertEqual(next_wait(Road(10, "s:7+9 s:0+9 s:3+9 4"), (1, 0)), (3, (2, 3)))
 
     def test_a_road_stays_as_it_is(self):
         road = Road(10, "s:0+3,5+3 4 s:0+1,5+1 2")
