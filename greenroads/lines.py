@@ -20,7 +20,8 @@ def lines_by(cycle, way, low, high):
     """The lines of a way that part the starts from low to high, ascending."""
     if not is_passage(way):
         return [(low, high, way, way)]
-    found, begin = [], low
+    found = []
+    begin = low
     for first, last, arrival in runs_within(cycle, way, low, high):
         if begin < first:
             found.append((begin, first - 1, arrival, arrival))

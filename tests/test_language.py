@@ -67,20 +67,22 @@ def run_by_operators():
     return list(found.values())
 
 
+def is_new(value):
+    """Whether an expression gives a new list or dict."""
+    if isinstance(value, ast.Call):
+        return isinstance(value.func, ast.Name) and value.func.id in MAKERS
+    return isinstance(value, (ast.List, ast.Dict, ast.ListComp, ast.DictComp))
+
+
 def new_values(node):
-    """The local names that a function assigns nothing but new lists and dicts."""
-    made, other = set(), {arg.arg for arg in node.args.args}
+    """The local names that a function assigns nothing but new lists and dicts, each one by a statement of its own."""
+    # Other targets, also within tuples, of loops and of comprehensions, may get anything.
+    plain = [inner.targets[0] for inner in ast.walk(node)
+             if isinstance(inner, ast.Assign) and len(inner.targets) == 1 and is_new(inner.value)]
+    made, other = set(), {inner.arg for inner in ast.walk(node) if isinstance(inner, ast.arg)}
     for inner in ast.walk(node):
-        if isinstance(inner, ast.Assign):
-            pairs = [(target, inner.value) for target in inner.targets]
-            if isinstance(inner.targets[0], ast.Tuple) and isinstance(inner.value, ast.Tuple):
-                pairs = list(zip(inner.targets[0].elts, inner.value.elts))
-            for target, value in pairs:
-                new = isinstance(value, (ast.List, ast.Dict, ast.ListComp, ast.DictComp)) or (
-                    isinstance(value, ast.Call) and isinstance(value.func, ast.Name) and value.func.id in MAKERS)
-                for name in ast.walk(target):
-                    if isinstance(name, ast.Name) and isinstance(name.ctx, ast.Store):
-                        (made if new else other).add(name.id)
+        if isinstance(inner, ast.Name) and isinstance(inner.ctx, ast.Store):
+            (made if inner in plain else other).add(inner.id)
     return made - other
 
 
@@ -296,6 +298,17 @@ class Language(unittest.TestCase):
                     self.assertTrue(isinstance(inner.value, ast.Name) and inner.value.id in made, where)
                 if isinstance(inner, ast.Attribute) and isinstance(inner.ctx, ast.Store):
                     self.assertTrue(node.name == "__init__" and inner.value.id == "self", where)
+
+    def test_new_values_are_assigned_by_statements_of_their_own(self):
+        rows = {
+            "found = []": {"found"}, "found = [k for k in low]": {"found"}, "found = list(low)": {"found"},
+            "found = {}": {"found"}, "found = []; found = [low]": {"found"}, "found = []; begin = low": {"found"},
+            "found, begin = [], low": set(), "found, begin = [], []": set(), "(found, begin) = rows = [], {}": set(),
+            "found = rows = []": set(), "found = low": set(), "found = []; found = low": set(),
+            "found = []; found += low": set(), "found = []; found, _ = low": set(), "low = []": set(),
+            "found = []\n for found in low: pass": set(), "found = []; rows = [0 for found in low]": {"rows"}}
+        for text, names in rows.items():
+            self.assertEqual(new_values(ast.parse(f"def told(low):\n {text}").body[0]), names, text)
 
     def test_decorators_stand_over_methods_alone(self):
         for path, tree in trees():
